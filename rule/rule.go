@@ -7,7 +7,25 @@ import (
 	"wayside/api"
 )
 
+// maxSlot is the greatest slot of a key, and maxDir the greatest direction.
+const (
+	maxSlot = 1000
+	maxDir  = 1
+)
+
 // Hits says which of two hits comes ahead: by the lesser D, then the lesser V (chapter 9).
 func Hits(a, b api.Hit) int {
 	return cmp.Or(cmp.Compare(a.D, b.D), cmp.Compare(a.V, b.V))
 }
+
+// Key says whether a key may be (chapter 14).
+func Key(k api.Key) bool {
+	return within(k.Slot, maxSlot) && within(k.Dir, maxDir) && within(k.V, api.MaxN-1)
+}
+
+// Keys says which of two keys is less: by Slot, then Dir, then V (chapter 14).
+func Keys(a, b api.Key) int {
+	return cmp.Or(cmp.Compare(a.Slot, b.Slot), cmp.Compare(a.Dir, b.Dir), cmp.Compare(a.V, b.V))
+}
+
+func within(n, most int) bool { return n >= 0 && n <= most }
