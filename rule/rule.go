@@ -23,6 +23,9 @@ func Key(k api.Key) bool {
 	return within(k.Slot, maxSlot) && within(k.Dir, maxDir) && within(k.V, api.MaxN-1)
 }
 
+// State says whether a state, or a message, of that key and D may be (chapters 15 and 16).
+func State(k api.Key, d int) bool { return Key(k) && within(d, api.MaxN) }
+
 // Keys says which of two keys is less: by Slot, then Dir, then V (chapter 14).
 func Keys(a, b api.Key) int {
 	return cmp.Or(cmp.Compare(a.Slot, b.Slot), cmp.Compare(a.Dir, b.Dir), cmp.Compare(a.V, b.V))
