@@ -7,6 +7,20 @@ import (
 	"wayside/api"
 )
 
+// The kinds of queries, and of requests (chapters 18 and 22).
+const (
+	Far     = 1 // how far To is from From
+	Reached = 2 // whether To is reached from From
+	Near    = 3 // which places that have all Words are near From
+	Cancel  = 4 // a request is taken back
+)
+
+// The directions of states and messages (chapter 18).
+const (
+	Out  = 0 // from From
+	Back = 1 // back from To
+)
+
 // maxSlot is the greatest slot of a key, and maxDir the greatest direction.
 const (
 	maxSlot = 1000
