@@ -53,6 +53,9 @@ func TestP19_1Each(t *testing.T) {
 	if l, e := round.Each(nil, 16); !slices.Equal(l, make([]int, 16)) || e != api.OK {
 		t.Errorf("%v, %d", l, e)
 	}
+	if l, e := round.Each(states, 1); !slices.Equal(l, []int{5}) || e != api.OK {
+		t.Errorf("%v, %d", l, e)
+	}
 	for _, workers := range []int{0, -1, 17, least, greatest} {
 		if l, e := round.Each(states, workers); len(l) != 0 || e != api.ErrArg {
 			t.Errorf("%d: %v, %d", workers, l, e)
@@ -164,7 +167,7 @@ func TestP19_2Wrong(t *testing.T) {
 	}{
 		{api.Rows{}, nil, nil, 1, api.ErrRows}, {api.Rows{}, []api.State{b, a}, []api.Mail{message(-1, 0, 0, 0)}, 0, api.ErrRows},
 		{r, []api.State{b, a}, nil, 1, api.ErrArg}, {r, []api.State{a, a}, nil, 1, api.ErrArg}, {r, []api.State{a, b, state(0, 0, 3, 1)}, nil, 1, api.ErrArg},
-		{r, nil, []api.Mail{message(0, 0, 3, 1)}, 1, api.ErrArg}, {r, []api.State{a}, []api.Mail{message(0, 0, 0, 201)}, 1, api.ErrArg},
+		{r, nil, []api.Mail{message(0, 0, 3, 1)}, 1, api.ErrArg}, {r, nil, []api.Mail{message(0, 0, 0, 1), message(0, 1, 199, 200), message(0, 1, 2, 1)}, 16, api.ErrArg}, {r, []api.State{a}, []api.Mail{message(0, 0, 0, 201)}, 1, api.ErrArg},
 		{r, nil, nil, 0, api.ErrArg}, {r, nil, nil, 17, api.ErrArg}, {r, nil, nil, -1, api.ErrArg}, {r, nil, nil, least, api.ErrArg}, {r, nil, nil, greatest, api.ErrArg},
 	} {
 		if s, m, e := round.Step(q, x.r, x.states, x.mails, x.workers, []int{1}); len(s)+len(m) != 0 || e != x.want {

@@ -48,6 +48,9 @@ func TestP26_2Of(t *testing.T) {
 	if again, _ := stats.Of(l, 7); again[1].Answer.Hits[0].V != 3 {
 		t.Errorf("%v", again)
 	}
+	if got, ok := stats.Of(l, 1); len(got) != 1 || !ok {
+		t.Errorf("%v, %v", got, ok)
+	}
 	for _, id := range []int{0, 2, 'x', -1, least, greatest} {
 		if got, ok := stats.Of(l, id); len(got) != 0 || ok {
 			t.Errorf("%d: %v, %v", id, got, ok)
