@@ -6,21 +6,13 @@ import (
 
 	"wayside/api"
 	"wayside/dist"
-	"wayside/graph"
-	"wayside/rows"
 	"wayside/sample"
 )
 
 const least, greatest = -1 << 63, 1<<63 - 1
 
-func made(g api.Graph) (api.Graph, api.Rows) {
-	n, _ := graph.Normal(g)
-	r, _ := rows.Make(n)
-	return n, r
-}
-
 func example() api.Rows {
-	_, r := made(sample.Plain(5, 0, 1, 0, 2, 1, 3, 2, 3, 3, 4))
+	_, r := sample.Rows(sample.Plain(5, 0, 1, 0, 2, 1, 3, 2, 3, 3, 4))
 	return r
 }
 
@@ -53,7 +45,7 @@ func TestP8_1Dist(t *testing.T) {
 		t.Errorf("%d, %v, %d", d, ok, e)
 	}
 	for seed := range 40 {
-		g, r := made(sample.Graph(seed, 1+seed, 3*seed/2))
+		g, r := sample.Rows(sample.Graph(seed, 1+seed, 3*seed/2))
 		far := sample.Levels(g)
 		for v := range g.N {
 			for w := range g.N {
@@ -70,14 +62,14 @@ func TestP8_2Steps(t *testing.T) {
 	if k, e := dist.Steps(example(), 0, 4); k != 2 || e != api.OK {
 		t.Errorf("%d, %d", k, e)
 	}
-	_, line := made(sample.Line(200))
+	_, line := sample.Rows(sample.Line(200))
 	for _, x := range [][3]int{{0, 199, 100}, {0, 2, 1}, {0, 1, 1}, {5, 5, 0}, {199, 0, 0}, {3, 2, 2}, {195, 190, 4}} {
 		if k, e := dist.Steps(line, x[0], x[1]); k != x[2] || e != api.OK {
 			t.Errorf("%v: %d, %d", x, k, e)
 		}
 	}
 	for seed := range 40 {
-		g, r := made(sample.Graph(seed, 1+seed, 3*seed/2))
+		g, r := sample.Rows(sample.Graph(seed, 1+seed, 3*seed/2))
 		far := sample.Levels(g)
 		for v := range g.N {
 			for w := range g.N {
@@ -118,12 +110,12 @@ func TestP8_3Path(t *testing.T) {
 		t.Errorf("%v, %v, %d", l, ok, e)
 	}
 	// 0 comes by 1, though 1 itself has the greater next place.
-	_, r := made(sample.Plain(6, 0, 1, 0, 2, 1, 4, 2, 3, 3, 5, 4, 5))
+	_, r := sample.Rows(sample.Plain(6, 0, 1, 0, 2, 1, 4, 2, 3, 3, 5, 4, 5))
 	if l, _, _ := dist.Path(r, 0, 5); !slices.Equal(l, []int{0, 1, 4, 5}) {
 		t.Errorf("%v", l)
 	}
 	for seed := range 20 {
-		g, r := made(sample.Graph(seed, 2+seed/2, 2*seed))
+		g, r := sample.Rows(sample.Graph(seed, 2+seed/2, 2*seed))
 		far := sample.Levels(g)
 		for v := range g.N {
 			for w := range g.N {
@@ -171,7 +163,7 @@ func TestP8_3Walk(t *testing.T) {
 			t.Errorf("%v: %v", x.l, !x.is)
 		}
 	}
-	_, loop := made(sample.Plain(2, 0, 0, 0, 1, 1, 0))
+	_, loop := sample.Rows(sample.Plain(2, 0, 0, 0, 1, 1, 0))
 	if !dist.Walk(loop, []int{0, 0, 1, 0, 1, 0, 0}) {
 		t.Errorf("places may come again")
 	}
@@ -179,7 +171,7 @@ func TestP8_3Walk(t *testing.T) {
 
 func TestP8_4WhatFollows(t *testing.T) {
 	for seed := range 15 {
-		g, r := made(sample.Graph(seed, 3+2*seed, 4*seed))
+		g, r := sample.Rows(sample.Graph(seed, 3+2*seed, 4*seed))
 		for v := range g.N {
 			for w := range g.N {
 				l, ok, _ := dist.Path(r, v, w)

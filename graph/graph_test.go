@@ -11,18 +11,6 @@ import (
 	"wayside/sample"
 )
 
-func same(a, b api.Graph) bool {
-	if a.N != b.N || !slices.Equal(a.Edges, b.Edges) || len(a.Words) != len(b.Words) {
-		return false
-	}
-	for v := range a.Words {
-		if !slices.Equal(a.Words[v], b.Words[v]) {
-			return false
-		}
-	}
-	return true
-}
-
 func copied(g api.Graph) api.Graph {
 	words := make([][]string, len(g.Words))
 	for v, row := range g.Words {
@@ -112,7 +100,7 @@ func TestP2_1Is(t *testing.T) {
 func TestP2_2Normal(t *testing.T) {
 	g := api.Graph{N: 2, Edges: sample.Ways(1, 0, 0, 1, 1, 0), Words: [][]string{nil, {"b", "a", "b"}}}
 	want := api.Graph{N: 2, Edges: sample.Ways(0, 1, 1, 0), Words: [][]string{nil, {"a", "b"}}}
-	if n, e := graph.Normal(g); e != api.OK || !same(n, want) {
+	if n, e := graph.Normal(g); e != api.OK || !sample.Same(n, want) {
 		t.Errorf("%v, %d", n, e)
 	}
 	for name, bad := range wrong() {
@@ -172,7 +160,7 @@ func TestP2_3Degrees(t *testing.T) {
 func TestP2_3Turned(t *testing.T) {
 	g := api.Graph{N: 3, Edges: sample.Ways(0, 2, 0, 1, 1, 0, 0, 2), Words: [][]string{{"b", "a"}, nil, nil}}
 	want := api.Graph{N: 3, Edges: sample.Ways(0, 1, 1, 0, 2, 0), Words: [][]string{{"a", "b"}, nil, nil}}
-	if n, e := graph.Turned(g); e != api.OK || !same(n, want) {
+	if n, e := graph.Turned(g); e != api.OK || !sample.Same(n, want) {
 		t.Errorf("%v, %d", n, e)
 	}
 	for name, bad := range wrong() {
@@ -186,7 +174,7 @@ func TestP2_4WhatFollows(t *testing.T) {
 	for seed := range 20 {
 		g := sample.Graph(seed, 5+seed, 40)
 		n, _ := graph.Normal(g)
-		if twice, _ := graph.Normal(n); !same(twice, n) {
+		if twice, _ := graph.Normal(n); !sample.Same(twice, n) {
 			t.Errorf("%d: Normal twice", seed)
 		}
 		mixed := copied(g)
@@ -196,11 +184,11 @@ func TestP2_4WhatFollows(t *testing.T) {
 			slices.Reverse(mixed.Words[v])
 			mixed.Words[v] = append(mixed.Words[v], mixed.Words[v]...)
 		}
-		if other, _ := graph.Normal(mixed); !same(other, n) {
+		if other, _ := graph.Normal(mixed); !sample.Same(other, n) {
 			t.Errorf("%d: order plays a part", seed)
 		}
 		turned, _ := graph.Turned(g)
-		if back, _ := graph.Turned(turned); !same(back, n) {
+		if back, _ := graph.Turned(turned); !sample.Same(back, n) {
 			t.Errorf("%d: Turned twice", seed)
 		}
 		from, to := 0, 0
@@ -222,7 +210,7 @@ func TestR2NothingShared(t *testing.T) {
 		n.Edges[0] = api.Edge{From: 1, To: 1}
 		n.Words[0][0], n.Words[1][0] = "x", "x"
 		n.Words[1] = nil
-		if !same(g, before) {
+		if !sample.Same(g, before) {
 			t.Errorf("%v", g)
 		}
 	}

@@ -12,18 +12,6 @@ import (
 	"wayside/sample"
 )
 
-func same(a, b api.Graph) bool {
-	if a.N != b.N || !slices.Equal(a.Edges, b.Edges) || len(a.Words) != len(b.Words) {
-		return false
-	}
-	for v := range a.Words {
-		if !slices.Equal(a.Words[v], b.Words[v]) {
-			return false
-		}
-	}
-	return true
-}
-
 // graphs are normal ones, from the least to those that have as much as may be.
 func graphs() []api.Graph {
 	words := []string{"a", "aa", "ab", "abcdefghijkl", "b", "c", "d", "z"}
@@ -87,7 +75,7 @@ func TestP3_2PrintedIsParsed(t *testing.T) {
 		if e != api.OK {
 			t.Fatalf("%d: %d", i, e)
 		}
-		if p, e := image.Parse(s); e != api.OK || !same(p, g) {
+		if p, e := image.Parse(s); e != api.OK || !sample.Same(p, g) {
 			t.Errorf("%d: %v, %d", i, p, e)
 		}
 	}

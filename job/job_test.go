@@ -6,27 +6,17 @@ import (
 	"testing"
 
 	"wayside/api"
-	"wayside/graph"
 	"wayside/job"
 	"wayside/label"
-	"wayside/posting"
-	"wayside/rows"
 	"wayside/sample"
 )
 
 const least, greatest = -1 << 63, 1<<63 - 1
 
-func made(g api.Graph) (api.Graph, api.Rows, []api.Posting) {
-	n, _ := graph.Normal(g)
-	r, _ := rows.Make(n)
-	l, _ := posting.Make(n)
-	return n, r, l
-}
-
 func example() (api.Rows, []api.Posting) {
 	g := sample.Line(3)
 	g.Words[2] = []string{"a"}
-	_, r, l := made(g)
+	_, r, l := sample.Whole(g)
 	return r, l
 }
 
@@ -126,7 +116,7 @@ func TestP20Wrong(t *testing.T) {
 
 func TestP20_2And3OfSamples(t *testing.T) {
 	for seed := range 25 {
-		g, r, l := made(sample.Graph(seed, 1+2*seed, 3*seed))
+		g, r, l := sample.Whole(sample.Graph(seed, 1+2*seed, 3*seed))
 		far := sample.Levels(g)
 		h, _ := label.Build(r)
 		for _, q := range queries(seed, g) {
@@ -159,7 +149,7 @@ func TestP20_3OddLabels(t *testing.T) {
 
 func TestP20_4WhatFollows(t *testing.T) {
 	for seed := range 15 {
-		g, r, l := made(sample.Graph(seed, 2+2*seed, 3*seed))
+		g, r, l := sample.Whole(sample.Graph(seed, 2+2*seed, 3*seed))
 		far := sample.Levels(g)
 		row := sample.New(seed)
 		for _, q := range queries(seed, g) {
@@ -177,7 +167,7 @@ func TestP20_4WhatFollows(t *testing.T) {
 			}
 		}
 	}
-	_, r, l := made(sample.Line(200))
+	_, r, l := sample.Whole(sample.Line(200))
 	if a, n, e := job.Run(api.Query{Kind: 2, To: 199}, r, l, 16, 202, nil); !a.Found || n != 200 || e != api.OK {
 		t.Errorf("%v, %d, %d", a, n, e)
 	}

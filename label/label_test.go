@@ -7,24 +7,16 @@ import (
 
 	"wayside/api"
 	"wayside/dist"
-	"wayside/graph"
 	"wayside/label"
 	"wayside/order"
-	"wayside/rows"
 	"wayside/sample"
 )
 
 const least, greatest = -1 << 63, 1<<63 - 1
 
-func made(g api.Graph) (api.Graph, api.Rows) {
-	n, _ := graph.Normal(g)
-	r, _ := rows.Make(n)
-	return n, r
-}
-
 func built(t *testing.T, g api.Graph) (api.Graph, api.Rows, api.Labels) {
 	t.Helper()
-	n, r := made(g)
+	n, r := sample.Rows(g)
 	l, e := label.Build(r)
 	if e != api.OK {
 		t.Fatalf("Build: %d", e)

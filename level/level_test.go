@@ -5,7 +5,6 @@ import (
 	"testing"
 
 	"wayside/api"
-	"wayside/graph"
 	"wayside/level"
 	"wayside/rows"
 	"wayside/sample"
@@ -13,14 +12,8 @@ import (
 
 const least, greatest = -1 << 63, 1<<63 - 1
 
-func made(g api.Graph) (api.Graph, api.Rows) {
-	n, _ := graph.Normal(g)
-	r, _ := rows.Make(n)
-	return n, r
-}
-
 func example() api.Rows {
-	_, r := made(sample.Plain(4, 0, 1, 1, 2, 0, 2, 3, 0))
+	_, r := sample.Rows(sample.Plain(4, 0, 1, 1, 2, 0, 2, 3, 0))
 	return r
 }
 
@@ -51,12 +44,12 @@ func TestP7_1Levels(t *testing.T) {
 	if l, e := level.Levels(example(), 0, true); !slices.Equal(l, []int{0, -1, -1, 1}) || e != api.OK {
 		t.Errorf("%v, %d", l, e)
 	}
-	_, r := made(sample.Line(200))
+	_, r := sample.Rows(sample.Line(200))
 	if l, _ := level.Levels(r, 0, false); l[199] != 199 {
 		t.Errorf("the end of 200 places in a row: %d", l[199])
 	}
 	for seed := range 30 {
-		g, r := made(sample.Graph(seed, 1+seed, 2*seed))
+		g, r := sample.Rows(sample.Graph(seed, 1+seed, 2*seed))
 		far := sample.Levels(g)
 		for v := range g.N {
 			if l, e := level.Levels(r, v, false); !slices.Equal(l, far[v]) || e != api.OK {
@@ -74,7 +67,7 @@ func TestP7_1ReachAndBall(t *testing.T) {
 		t.Errorf("%v, %d", l, e)
 	}
 	for seed := range 20 {
-		g, r := made(sample.Graph(seed, 1+seed, 2*seed))
+		g, r := sample.Rows(sample.Graph(seed, 1+seed, 2*seed))
 		far := sample.Levels(g)
 		for v := range g.N {
 			for _, back := range []bool{false, true} {
@@ -121,7 +114,7 @@ func TestP7_1Wrong(t *testing.T) {
 }
 
 func TestP7_2Front(t *testing.T) {
-	loop := func() api.Rows { _, r := made(sample.Plain(2, 0, 0, 0, 1)); return r }()
+	loop := func() api.Rows { _, r := sample.Rows(sample.Plain(2, 0, 0, 0, 1)); return r }()
 	for i, x := range []struct {
 		r    api.Rows
 		l    []int
@@ -143,7 +136,7 @@ func TestP7_2Front(t *testing.T) {
 
 func TestP7_3WhatFollows(t *testing.T) {
 	for seed := range 20 {
-		g, r := made(sample.Graph(seed, 2+2*seed, 3*seed))
+		g, r := sample.Rows(sample.Graph(seed, 2+2*seed, 3*seed))
 		for v := range g.N {
 			levels, _ := level.Levels(r, v, false)
 			for _, e := range g.Edges {

@@ -12,16 +12,12 @@ import (
 
 const least, greatest = -1 << 63, 1<<63 - 1
 
-func message(slot, dir, v, d int) api.Mail {
-	return api.Mail{Key: api.Key{Slot: slot, Dir: dir, V: v}, D: d}
-}
-
 // some are messages that may be, many of them of the same keys.
 func some(seed, many int) []api.Mail {
 	r := sample.New(seed)
 	var l []api.Mail
 	for range many {
-		l = append(l, message(r.Below(3), r.Below(2), r.Below(12), r.Below(201)))
+		l = append(l, sample.Mail(r.Below(3), r.Below(2), r.Below(12), r.Below(201)))
 	}
 	return l
 }
@@ -29,13 +25,13 @@ func some(seed, many int) []api.Mail {
 // wrong are messages that may not be.
 func wrong() []api.Mail {
 	return []api.Mail{
-		message(-1, 0, 0, 0), message(1001, 0, 0, 0), message(0, -1, 0, 0), message(0, 2, 0, 0), message(0, 0, -1, 0), message(0, 0, 200, 0),
-		message(0, 0, 0, -1), message(0, 0, 0, 201), message(least, least, least, least), message(greatest, greatest, greatest, greatest),
+		sample.Mail(-1, 0, 0, 0), sample.Mail(1001, 0, 0, 0), sample.Mail(0, -1, 0, 0), sample.Mail(0, 2, 0, 0), sample.Mail(0, 0, -1, 0), sample.Mail(0, 0, 200, 0),
+		sample.Mail(0, 0, 0, -1), sample.Mail(0, 0, 0, 201), sample.Mail(least, least, least, least), sample.Mail(greatest, greatest, greatest, greatest),
 	}
 }
 
 func TestP16_1Check(t *testing.T) {
-	for i, l := range [][]api.Mail{nil, {message(0, 0, 0, 0)}, {message(1000, 1, 199, 200)}, some(1, 5000)} {
+	for i, l := range [][]api.Mail{nil, {sample.Mail(0, 0, 0, 0)}, {sample.Mail(1000, 1, 199, 200)}, some(1, 5000)} {
 		if !mail.Check(l) {
 			t.Errorf("%d may be", i)
 		}
@@ -48,19 +44,19 @@ func TestP16_1Check(t *testing.T) {
 }
 
 func TestP16_1Combine(t *testing.T) {
-	l := mail.Combine([]api.Mail{message(0, 0, 5, 3), message(0, 0, 2, 9), message(0, 0, 5, 1)})
-	if !slices.Equal(l, []api.Mail{message(0, 0, 2, 9), message(0, 0, 5, 1)}) {
+	l := mail.Combine([]api.Mail{sample.Mail(0, 0, 5, 3), sample.Mail(0, 0, 2, 9), sample.Mail(0, 0, 5, 1)})
+	if !slices.Equal(l, []api.Mail{sample.Mail(0, 0, 2, 9), sample.Mail(0, 0, 5, 1)}) {
 		t.Errorf("%v", l)
 	}
 	if l := mail.Combine(nil); len(l) != 0 {
 		t.Errorf("%v", l)
 	}
-	odd := []api.Mail{message(0, 0, 1, 0), message(greatest, 0, 0, least), message(0, -7, 0, 1), message(0, -7, 0, greatest), message(least, 9, 9, 0), message(0, -7, 0, -1)}
-	want := []api.Mail{message(least, 9, 9, 0), message(0, -7, 0, -1), message(0, 0, 1, 0), message(greatest, 0, 0, least)}
+	odd := []api.Mail{sample.Mail(0, 0, 1, 0), sample.Mail(greatest, 0, 0, least), sample.Mail(0, -7, 0, 1), sample.Mail(0, -7, 0, greatest), sample.Mail(least, 9, 9, 0), sample.Mail(0, -7, 0, -1)}
+	want := []api.Mail{sample.Mail(least, 9, 9, 0), sample.Mail(0, -7, 0, -1), sample.Mail(0, 0, 1, 0), sample.Mail(greatest, 0, 0, least)}
 	if l := mail.Combine(odd); !slices.Equal(l, want) {
 		t.Errorf("%v", l)
 	}
-	rise := []api.Mail{message(1, 0, 0, 1), message(0, 1, 0, 2), message(0, 0, 9, 3), message(0, 0, 8, 4)}
+	rise := []api.Mail{sample.Mail(1, 0, 0, 1), sample.Mail(0, 1, 0, 2), sample.Mail(0, 0, 9, 3), sample.Mail(0, 0, 8, 4)}
 	slices.Reverse(rise)
 	if l := mail.Combine(rise); !slices.Equal(l, rise) {
 		t.Errorf("%v", l)
@@ -95,7 +91,7 @@ func TestP16_2Split(t *testing.T) {
 }
 
 func TestP16_3Print(t *testing.T) {
-	if s, e := mail.Print([]api.Mail{message(300, 1, 199, 200), message(0, 0, 2, 9)}); s != "\x02\xac\x02\x01\xc7\x01\xc8\x01\x00\x00\x02\x09" || e != api.OK {
+	if s, e := mail.Print([]api.Mail{sample.Mail(300, 1, 199, 200), sample.Mail(0, 0, 2, 9)}); s != "\x02\xac\x02\x01\xc7\x01\xc8\x01\x00\x00\x02\x09" || e != api.OK {
 		t.Errorf("%q, %d", s, e)
 	}
 	if s, e := mail.Print(nil); s != "\x00" || e != api.OK {
@@ -171,7 +167,7 @@ func TestR2NothingIsChanged(t *testing.T) {
 	mail.Combine(l)[0].D = -9
 	parts, _ := mail.Split(l, 1)
 	parts[0][0].D = -9
-	_ = append(parts[0][:1], message(9, 9, 9, 9))
+	_ = append(parts[0][:1], sample.Mail(9, 9, 9, 9))
 	if !slices.Equal(l, before) {
 		t.Errorf("%v", l)
 	}

@@ -6,26 +6,16 @@ import (
 	"testing"
 
 	"wayside/api"
-	"wayside/graph"
 	"wayside/near"
-	"wayside/posting"
-	"wayside/rows"
 	"wayside/sample"
 )
 
 const least, greatest = -1 << 63, 1<<63 - 1
 
-func made(g api.Graph) (api.Graph, api.Rows, []api.Posting) {
-	n, _ := graph.Normal(g)
-	r, _ := rows.Make(n)
-	l, _ := posting.Make(n)
-	return n, r, l
-}
-
 func example() (api.Rows, []api.Posting) {
 	g := sample.Plain(3, 0, 1, 1, 2)
 	g.Words[0], g.Words[2] = []string{"a"}, []string{"a"}
-	_, r, l := made(g)
+	_, r, l := sample.Whole(g)
 	return r, l
 }
 
@@ -63,7 +53,7 @@ func TestP9_1Examples(t *testing.T) {
 
 func TestP9_1And2OfSamples(t *testing.T) {
 	for seed := range 20 {
-		g, r, l := made(sample.Graph(seed, 2+2*seed, 5*seed))
+		g, r, l := sample.Whole(sample.Graph(seed, 2+2*seed, 5*seed))
 		far := sample.Levels(g)
 		for _, words := range [][]string{{"a"}, {"b", "c"}, {"d", "d", "a"}, {"e"}} {
 			for _, radius := range []int{0, 1, 2, 5, 200, greatest} {
@@ -138,7 +128,7 @@ func TestP9_1And2Wrong(t *testing.T) {
 
 func TestP9_3WhatFollows(t *testing.T) {
 	for seed := range 10 {
-		g, r, l := made(sample.Graph(seed, 20, 30))
+		g, r, l := sample.Whole(sample.Graph(seed, 20, 30))
 		for v := range g.N {
 			last := []api.Hit(nil)
 			for radius := range 12 {

@@ -5,24 +5,14 @@ import (
 	"testing"
 
 	"wayside/api"
-	"wayside/graph"
 	"wayside/job"
 	"wayside/need"
-	"wayside/posting"
 	"wayside/prog"
 	"wayside/round"
-	"wayside/rows"
 	"wayside/sample"
 )
 
 const least, greatest = -1 << 63, 1<<63 - 1
-
-func made(g api.Graph) (api.Graph, api.Rows, []api.Posting) {
-	n, _ := graph.Normal(g)
-	r, _ := rows.Make(n)
-	l, _ := posting.Make(n)
-	return n, r, l
-}
 
 func queries(g api.Graph, seed int) []api.Query {
 	r := sample.New(seed)
@@ -38,12 +28,12 @@ func queries(g api.Graph, seed int) []api.Query {
 func same(a, b [][]int) bool { return slices.EqualFunc(a, b, slices.Equal[[]int]) }
 
 func TestP21_1Steps(t *testing.T) {
-	_, r, l := made(sample.Line(3))
+	_, r, l := sample.Whole(sample.Line(3))
 	if got, e := need.Steps(api.Query{Kind: 2, To: 2}, r, l, 2); !same(got, [][]int{{0, 1}, {1, 1}, {1, 2}}) || e != api.OK {
 		t.Errorf("%v, %d", got, e)
 	}
 	for seed := range 15 {
-		g, r, l := made(sample.Graph(seed, 2+3*seed, 6*seed))
+		g, r, l := sample.Whole(sample.Graph(seed, 2+3*seed, 6*seed))
 		for _, q := range queries(g, seed) {
 			for _, workers := range []int{1, 2, 7, 16} {
 				_, steps, _ := job.Run(q, r, l, workers, 1000, nil)
@@ -63,14 +53,14 @@ func TestP21_1Steps(t *testing.T) {
 			}
 		}
 	}
-	_, r, l = made(sample.Line(200))
+	_, r, l = sample.Whole(sample.Line(200))
 	if got, e := need.Steps(api.Query{Kind: 2, To: 199}, r, l, 1); len(got) != 200 || got[199][0] != 200 || e != api.OK {
 		t.Errorf("%d steps, %d", len(got), e)
 	}
 }
 
 func TestP21_1And2Wrong(t *testing.T) {
-	_, r, l := made(sample.Line(3))
+	_, r, l := sample.Whole(sample.Line(3))
 	q := api.Query{Kind: 1}
 	for i, x := range []struct {
 		q       api.Query
@@ -125,7 +115,7 @@ func TestP21_4WhatFollows(t *testing.T) {
 		return sum
 	}
 	for seed := range 12 {
-		g, r, l := made(sample.Graph(seed, 2+4*seed, 9*seed))
+		g, r, l := sample.Whole(sample.Graph(seed, 2+4*seed, 9*seed))
 		for _, q := range queries(g, seed) {
 			alone, _ := need.Most(q, r, l, 1)
 			for workers := 1; workers <= 16; workers += 5 {

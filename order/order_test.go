@@ -7,17 +7,10 @@ import (
 	"wayside/api"
 	"wayside/graph"
 	"wayside/order"
-	"wayside/rows"
 	"wayside/sample"
 )
 
 const least, greatest = -1 << 63, 1<<63 - 1
-
-func made(g api.Graph) (api.Graph, api.Rows) {
-	n, _ := graph.Normal(g)
-	r, _ := rows.Make(n)
-	return n, r
-}
 
 func TestP11_1By(t *testing.T) {
 	for i, x := range []struct {
@@ -29,7 +22,7 @@ func TestP11_1By(t *testing.T) {
 		{sample.Plain(3, 0, 1, 2, 2), []int{2, 0, 1}}, {sample.Plain(4, 3, 2, 2, 3), []int{2, 3, 0, 1}}, {sample.Plain(3, 0, 1, 0, 2), []int{0, 1, 2}},
 		{sample.Plain(3, 1, 0, 2, 0), []int{0, 1, 2}}, {sample.Plain(3, 0, 2, 1, 2), []int{2, 0, 1}},
 	} {
-		_, r := made(x.g)
+		_, r := sample.Rows(x.g)
 		if l, e := order.By(r); !slices.Equal(l, x.want) || e != api.OK {
 			t.Errorf("%d: %v, %d", i, l, e)
 		}
@@ -38,7 +31,7 @@ func TestP11_1By(t *testing.T) {
 		t.Errorf("%v, %d", l, e)
 	}
 	for seed := range 30 {
-		g, r := made(sample.Graph(seed, 1+5*seed, 9*seed))
+		g, r := sample.Rows(sample.Graph(seed, 1+5*seed, 9*seed))
 		l, e := order.By(r)
 		if e != api.OK || !order.Is(l, g.N) {
 			t.Fatalf("%d: %v, %d", seed, l, e)
@@ -148,7 +141,7 @@ func TestR2NothingIsChanged(t *testing.T) {
 	at[0] = 9
 	order.Turns(l)
 	order.Is(l, 3)
-	_, r := made(sample.Plain(2, 0, 1))
+	_, r := sample.Rows(sample.Plain(2, 0, 1))
 	by, _ := order.By(r)
 	by[0] = 9
 	if again, _ := order.By(r); !slices.Equal(l, []int{2, 0, 1}) || !slices.Equal(again, []int{0, 1}) {

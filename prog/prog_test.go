@@ -15,14 +15,6 @@ import (
 
 const least, greatest = -1 << 63, 1<<63 - 1
 
-func state(slot, dir, v, d int) api.State {
-	return api.State{Key: api.Key{Slot: slot, Dir: dir, V: v}, D: d}
-}
-
-func message(slot, dir, v, d int) api.Mail {
-	return api.Mail{Key: api.Key{Slot: slot, Dir: dir, V: v}, D: d}
-}
-
 func example() (api.Rows, []api.Posting) {
 	g := sample.Plain(4, 0, 1, 0, 2, 1, 3, 2, 3, 3, 3)
 	g.Words = [][]string{{"a"}, {"a", "b"}, {"b"}, {"a", "b"}}
@@ -67,9 +59,9 @@ func TestP18_1Start(t *testing.T) {
 		slot int
 		want []api.Mail
 	}{
-		{api.Query{Kind: 1, From: 2, To: 5}, 4, []api.Mail{message(4, 0, 2, 0), message(4, 1, 5, 0)}}, {api.Query{Kind: 2, From: 2, To: 5}, 4, []api.Mail{message(4, 0, 2, 0)}},
-		{api.Query{Kind: 3, From: 2}, 4, []api.Mail{message(4, 0, 2, 0)}}, {api.Query{From: 2, To: 5}, 4, nil}, {api.Query{Kind: 4, From: 2, To: 5}, 4, nil},
-		{api.Query{Kind: -1}, 4, nil}, {api.Query{Kind: 1, From: least, To: greatest}, -7, []api.Mail{message(-7, 0, least, 0), message(-7, 1, greatest, 0)}},
+		{api.Query{Kind: 1, From: 2, To: 5}, 4, []api.Mail{sample.Mail(4, 0, 2, 0), sample.Mail(4, 1, 5, 0)}}, {api.Query{Kind: 2, From: 2, To: 5}, 4, []api.Mail{sample.Mail(4, 0, 2, 0)}},
+		{api.Query{Kind: 3, From: 2}, 4, []api.Mail{sample.Mail(4, 0, 2, 0)}}, {api.Query{From: 2, To: 5}, 4, nil}, {api.Query{Kind: 4, From: 2, To: 5}, 4, nil},
+		{api.Query{Kind: -1}, 4, nil}, {api.Query{Kind: 1, From: least, To: greatest}, -7, []api.Mail{sample.Mail(-7, 0, least, 0), sample.Mail(-7, 1, greatest, 0)}},
 	} {
 		if l := prog.Start(x.q, x.slot); !slices.Equal(l, x.want) {
 			t.Errorf("%d: %v", i, l)
@@ -86,14 +78,14 @@ func TestP18_2Next(t *testing.T) {
 		want []api.Mail
 		e    api.Errno
 	}{
-		{api.Query{Kind: 1}, r, state(9, 0, 0, 5), []api.Mail{message(9, 0, 1, 6), message(9, 0, 2, 6)}, api.OK},
-		{api.Query{Kind: 2}, r, state(greatest, 1, 3, 200), []api.Mail{message(greatest, 1, 1, 201), message(greatest, 1, 2, 201), message(greatest, 1, 3, 201)}, api.OK},
-		{api.Query{Kind: 7}, r, state(least, 0, 3, 0), []api.Mail{message(least, 0, 3, 1)}, api.OK}, {api.Query{Kind: 1}, r, state(0, 1, 0, 0), nil, api.OK},
-		{near("a"), r, state(1, 0, 1, 1), []api.Mail{message(1, 0, 3, 2)}, api.OK}, {near("a"), r, state(1, 0, 1, 2), nil, api.OK}, {near("a"), r, state(1, 0, 1, 3), nil, api.OK},
-		{near("a"), r, state(1, 1, 1, 0), []api.Mail{message(1, 1, 0, 1)}, api.OK}, {api.Query{Kind: 2, Radius: 1}, r, state(1, 0, 1, 2), []api.Mail{message(1, 0, 3, 3)}, api.OK},
-		{near("a"), api.Rows{}, state(1, 7, -1, -1), nil, api.ErrRows}, {near("a"), r, state(0, -1, 0, 0), nil, api.ErrArg}, {near("a"), r, state(0, 2, 0, 5), nil, api.ErrArg},
-		{near("a"), r, state(0, 0, -1, 0), nil, api.ErrArg}, {near("a"), r, state(0, 0, 4, 9), nil, api.ErrArg}, {near("a"), r, state(0, 1, greatest, 9), nil, api.ErrArg},
-		{near("a"), r, state(0, 0, 0, -1), nil, api.ErrArg}, {near("a"), r, state(0, 0, 0, 201), nil, api.ErrArg}, {api.Query{Kind: 1}, r, state(0, 0, 0, least), nil, api.ErrArg},
+		{api.Query{Kind: 1}, r, sample.State(9, 0, 0, 5), []api.Mail{sample.Mail(9, 0, 1, 6), sample.Mail(9, 0, 2, 6)}, api.OK},
+		{api.Query{Kind: 2}, r, sample.State(greatest, 1, 3, 200), []api.Mail{sample.Mail(greatest, 1, 1, 201), sample.Mail(greatest, 1, 2, 201), sample.Mail(greatest, 1, 3, 201)}, api.OK},
+		{api.Query{Kind: 7}, r, sample.State(least, 0, 3, 0), []api.Mail{sample.Mail(least, 0, 3, 1)}, api.OK}, {api.Query{Kind: 1}, r, sample.State(0, 1, 0, 0), nil, api.OK},
+		{near("a"), r, sample.State(1, 0, 1, 1), []api.Mail{sample.Mail(1, 0, 3, 2)}, api.OK}, {near("a"), r, sample.State(1, 0, 1, 2), nil, api.OK}, {near("a"), r, sample.State(1, 0, 1, 3), nil, api.OK},
+		{near("a"), r, sample.State(1, 1, 1, 0), []api.Mail{sample.Mail(1, 1, 0, 1)}, api.OK}, {api.Query{Kind: 2, Radius: 1}, r, sample.State(1, 0, 1, 2), []api.Mail{sample.Mail(1, 0, 3, 3)}, api.OK},
+		{near("a"), api.Rows{}, sample.State(1, 7, -1, -1), nil, api.ErrRows}, {near("a"), r, sample.State(0, -1, 0, 0), nil, api.ErrArg}, {near("a"), r, sample.State(0, 2, 0, 5), nil, api.ErrArg},
+		{near("a"), r, sample.State(0, 0, -1, 0), nil, api.ErrArg}, {near("a"), r, sample.State(0, 0, 4, 9), nil, api.ErrArg}, {near("a"), r, sample.State(0, 1, greatest, 9), nil, api.ErrArg},
+		{near("a"), r, sample.State(0, 0, 0, -1), nil, api.ErrArg}, {near("a"), r, sample.State(0, 0, 0, 201), nil, api.ErrArg}, {api.Query{Kind: 1}, r, sample.State(0, 0, 0, least), nil, api.ErrArg},
 	} {
 		if l, e := prog.Next(x.q, x.r, x.x); !slices.Equal(l, x.want) || e != x.e {
 			t.Errorf("%d: %v, %d", i, l, e)
@@ -121,46 +113,46 @@ func check(t *testing.T, l []api.Posting, all []done) {
 
 func TestP18_3DoneFar(t *testing.T) {
 	far := api.Query{Kind: 1, From: 0, To: 3}
-	both := []api.Mail{message(0, 0, 1, 1), message(0, 1, 2, 1)}
+	both := []api.Mail{sample.Mail(0, 0, 1, 1), sample.Mail(0, 1, 2, 1)}
 	found := func(d int) api.Answer { return api.Answer{Found: true, D: d} }
 	check(t, nil, []done{
 		{far, nil, both, api.Answer{}, false}, {far, nil, both[:1], api.Answer{}, true}, {far, nil, both[1:], api.Answer{}, true}, {far, nil, nil, api.Answer{}, true},
-		{far, nil, []api.Mail{message(0, 0, 1, 1), message(0, 2, 1, 1), message(0, -1, 1, 1)}, api.Answer{}, true},
-		{far, []api.State{state(0, 0, 1, 2), state(0, 1, 2, 2)}, both, api.Answer{}, false},
-		{far, []api.State{state(0, 0, 1, 2), state(0, 1, 1, 3)}, both, found(5), true}, {far, []api.State{state(5, 0, 1, 2), state(7, 1, 1, 3)}, nil, found(5), true},
-		{far, []api.State{state(0, 0, 1, 2), state(0, 0, 2, 1), state(0, 1, 1, 3), state(0, 1, 2, 3)}, both, found(4), true},
-		{far, []api.State{state(0, 1, 1, 9), state(0, 0, 1, 7), state(0, 1, 1, 4), state(0, 0, 1, 8)}, both, found(11), true},
-		{far, []api.State{state(0, 0, 1, 0), state(0, 0, 1, 5), state(0, 1, 1, 0), state(0, 1, 1, 5)}, both, found(0), true},
-		{far, []api.State{state(0, 0, 1, 2), state(0, 2, 1, 3), state(0, -1, 1, 3)}, both, api.Answer{}, false},
-		{far, []api.State{state(0, 0, -9, 2), state(0, 1, -9, -7)}, both, found(-5), true},
-		{far, []api.State{state(0, 0, 1, greatest), state(0, 1, 1, greatest), state(0, 0, 2, 4), state(0, 1, 2, 4)}, both, found(8), true},
-		{far, []api.State{state(0, 0, 1, greatest), state(0, 1, 1, least), state(0, 0, 2, 0), state(0, 1, 2, -1)}, both, found(-1), true},
-		{far, []api.State{state(0, 0, 1, 3), state(0, 1, 1, 3), state(0, 0, 2, 3), state(0, 1, 2, 2), state(0, 0, 0, 4), state(0, 1, 0, 2)}, both, found(5), true},
+		{far, nil, []api.Mail{sample.Mail(0, 0, 1, 1), sample.Mail(0, 2, 1, 1), sample.Mail(0, -1, 1, 1)}, api.Answer{}, true},
+		{far, []api.State{sample.State(0, 0, 1, 2), sample.State(0, 1, 2, 2)}, both, api.Answer{}, false},
+		{far, []api.State{sample.State(0, 0, 1, 2), sample.State(0, 1, 1, 3)}, both, found(5), true}, {far, []api.State{sample.State(5, 0, 1, 2), sample.State(7, 1, 1, 3)}, nil, found(5), true},
+		{far, []api.State{sample.State(0, 0, 1, 2), sample.State(0, 0, 2, 1), sample.State(0, 1, 1, 3), sample.State(0, 1, 2, 3)}, both, found(4), true},
+		{far, []api.State{sample.State(0, 1, 1, 9), sample.State(0, 0, 1, 7), sample.State(0, 1, 1, 4), sample.State(0, 0, 1, 8)}, both, found(11), true},
+		{far, []api.State{sample.State(0, 0, 1, 0), sample.State(0, 0, 1, 5), sample.State(0, 1, 1, 0), sample.State(0, 1, 1, 5)}, both, found(0), true},
+		{far, []api.State{sample.State(0, 0, 1, 2), sample.State(0, 2, 1, 3), sample.State(0, -1, 1, 3)}, both, api.Answer{}, false},
+		{far, []api.State{sample.State(0, 0, -9, 2), sample.State(0, 1, -9, -7)}, both, found(-5), true},
+		{far, []api.State{sample.State(0, 0, 1, greatest), sample.State(0, 1, 1, greatest), sample.State(0, 0, 2, 4), sample.State(0, 1, 2, 4)}, both, found(8), true},
+		{far, []api.State{sample.State(0, 0, 1, greatest), sample.State(0, 1, 1, least), sample.State(0, 0, 2, 0), sample.State(0, 1, 2, -1)}, both, found(-1), true},
+		{far, []api.State{sample.State(0, 0, 1, 3), sample.State(0, 1, 1, 3), sample.State(0, 0, 2, 3), sample.State(0, 1, 2, 2), sample.State(0, 0, 0, 4), sample.State(0, 1, 0, 2)}, both, found(5), true},
 	})
 }
 
 func TestP18_3DoneReached(t *testing.T) {
 	q := api.Query{Kind: 2, From: 0, To: 3}
-	one := []api.Mail{message(0, 7, 1, 1)}
+	one := []api.Mail{sample.Mail(0, 7, 1, 1)}
 	check(t, nil, []done{
-		{q, nil, one, api.Answer{}, false}, {q, nil, nil, api.Answer{}, true}, {q, []api.State{state(0, 0, 3, 9)}, one, api.Answer{Found: true}, true},
-		{q, []api.State{state(0, 0, 2, 9), state(4, 0, 3, -9)}, nil, api.Answer{Found: true}, true}, {q, []api.State{state(0, 1, 3, 9)}, one, api.Answer{}, false},
-		{q, []api.State{state(0, 1, 3, 9), state(0, 0, 0, 0)}, nil, api.Answer{}, true},
+		{q, nil, one, api.Answer{}, false}, {q, nil, nil, api.Answer{}, true}, {q, []api.State{sample.State(0, 0, 3, 9)}, one, api.Answer{Found: true}, true},
+		{q, []api.State{sample.State(0, 0, 2, 9), sample.State(4, 0, 3, -9)}, nil, api.Answer{Found: true}, true}, {q, []api.State{sample.State(0, 1, 3, 9)}, one, api.Answer{}, false},
+		{q, []api.State{sample.State(0, 1, 3, 9), sample.State(0, 0, 0, 0)}, nil, api.Answer{}, true},
 	})
 }
 
 func TestP18_3DoneNear(t *testing.T) {
 	_, l := example()
-	states := []api.State{state(0, 0, 0, 0), state(0, 0, 1, 1), state(0, 0, 3, 2), state(0, 1, 2, 0), state(0, 0, 9, 0)}
+	states := []api.State{sample.State(0, 0, 0, 0), sample.State(0, 0, 1, 1), sample.State(0, 0, 3, 2), sample.State(0, 1, 2, 0), sample.State(0, 0, 9, 0)}
 	most := func(q api.Query, most int) api.Query { q.Most = most; return q }
 	hits := func(l ...api.Hit) api.Answer { return api.Answer{Found: len(l) > 0, Hits: l} }
 	all := []done{
-		{near("a"), states, []api.Mail{message(5, 5, 5, 5)}, api.Answer{}, false}, {near("a"), nil, nil, api.Answer{}, true},
+		{near("a"), states, []api.Mail{sample.Mail(5, 5, 5, 5)}, api.Answer{}, false}, {near("a"), nil, nil, api.Answer{}, true},
 		{near("a"), states, nil, hits(api.Hit{}, api.Hit{V: 1, D: 1}, api.Hit{V: 3, D: 2}), true}, {near("a", "b"), states, nil, hits(api.Hit{V: 1, D: 1}, api.Hit{V: 3, D: 2}), true},
 		{most(near("a"), 2), states, nil, hits(api.Hit{}, api.Hit{V: 1, D: 1}), true}, {most(near("a"), 0), states, nil, hits(), true}, {most(near("a"), least), states, nil, hits(), true},
 		{near("c"), states, nil, hits(), true}, {near(), states, nil, hits(), true}, {most(near("a"), greatest), states[1:2], nil, hits(api.Hit{V: 1, D: 1}), true},
-		{near("a"), []api.State{state(0, 0, 3, 5), state(1, 0, 0, 5), state(0, 0, 3, -1), state(0, 0, 3, 5)}, nil, hits(api.Hit{V: 3, D: -1}, api.Hit{V: 0, D: 5}, api.Hit{V: 3, D: 5}, api.Hit{V: 3, D: 5}), true},
-		{api.Query{}, states, nil, api.Answer{}, true}, {api.Query{Kind: 4}, states, []api.Mail{message(0, 0, 0, 0)}, api.Answer{}, true},
+		{near("a"), []api.State{sample.State(0, 0, 3, 5), sample.State(1, 0, 0, 5), sample.State(0, 0, 3, -1), sample.State(0, 0, 3, 5)}, nil, hits(api.Hit{V: 3, D: -1}, api.Hit{V: 0, D: 5}, api.Hit{V: 3, D: 5}, api.Hit{V: 3, D: 5}), true},
+		{api.Query{}, states, nil, api.Answer{}, true}, {api.Query{Kind: 4}, states, []api.Mail{sample.Mail(0, 0, 0, 0)}, api.Answer{}, true},
 	}
 	check(t, l, all)
 	check(t, nil, []done{{near("a"), states, nil, hits(), true}})
@@ -177,7 +169,7 @@ func TestP18_4WhatFollows(t *testing.T) {
 		var states []api.State
 		last, found := api.Answer{}, false
 		for range 30 {
-			states = append(states, state(0, r.Below(2), r.Below(6), r.Below(9)))
+			states = append(states, sample.State(0, r.Below(2), r.Below(6), r.Below(9)))
 			got, _ := prog.Done(q, nil, states, nil)
 			if q.Kind < 3 && found && (!got.Found || got.D > last.D) {
 				t.Errorf("%v, then %v with more states", last, got)
@@ -188,7 +180,7 @@ func TestP18_4WhatFollows(t *testing.T) {
 	of, _ := example()
 	for v := range 4 {
 		for dir := range 2 {
-			l, _ := prog.Next(api.Query{Kind: 1}, of, state(2, dir, v, 6))
+			l, _ := prog.Next(api.Query{Kind: 1}, of, sample.State(2, dir, v, 6))
 			for i, m := range l {
 				if m.D != 7 || m.Key.Slot != 2 || m.Key.Dir != dir || i > 0 && l[i-1].Key.V == m.Key.V {
 					t.Errorf("%v", l)
@@ -200,12 +192,12 @@ func TestP18_4WhatFollows(t *testing.T) {
 
 func TestR2NothingIsChanged(t *testing.T) {
 	r, l := example()
-	states := []api.State{state(0, 0, 3, 1), state(0, 0, 1, 0)}
+	states := []api.State{sample.State(0, 0, 3, 1), sample.State(0, 0, 1, 0)}
 	prog.Next(near("a"), r, states[0])
 	got, _ := prog.Done(near("a"), l, states, nil)
 	got.Hits[0].V = 9
 	r2, l2 := example()
-	if !reflect.DeepEqual(r, r2) || !reflect.DeepEqual(l, l2) || states[0] != state(0, 0, 3, 1) {
+	if !reflect.DeepEqual(r, r2) || !reflect.DeepEqual(l, l2) || states[0] != sample.State(0, 0, 3, 1) {
 		t.Errorf("%v, %v, %v", r, l, states)
 	}
 }

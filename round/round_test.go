@@ -5,39 +5,23 @@ import (
 	"testing"
 
 	"wayside/api"
-	"wayside/graph"
 	"wayside/part"
 	"wayside/prog"
 	"wayside/round"
-	"wayside/rows"
 	"wayside/sample"
 )
 
 const least, greatest = -1 << 63, 1<<63 - 1
-
-func state(slot, dir, v, d int) api.State {
-	return api.State{Key: api.Key{Slot: slot, Dir: dir, V: v}, D: d}
-}
-
-func message(slot, dir, v, d int) api.Mail {
-	return api.Mail{Key: api.Key{Slot: slot, Dir: dir, V: v}, D: d}
-}
-
-func made(g api.Graph) (api.Graph, api.Rows) {
-	n, _ := graph.Normal(g)
-	r, _ := rows.Make(n)
-	return n, r
-}
 
 func TestP19_1Fresh(t *testing.T) {
 	for i, x := range []struct {
 		states      []api.State
 		mails, want []api.Mail
 	}{
-		{nil, nil, nil}, {[]api.State{state(0, 0, 1, 1)}, nil, nil},
-		{nil, []api.Mail{message(1, 0, 2, 9), message(0, 1, 3, 4), message(1, 0, 2, 7)}, []api.Mail{message(0, 1, 3, 4), message(1, 0, 2, 7)}},
-		{[]api.State{state(0, 0, 1, 5), state(0, 0, 1, 6)}, []api.Mail{message(0, 0, 1, 1), message(0, 1, 1, 1), message(1, 0, 1, 1)}, []api.Mail{message(0, 1, 1, 1), message(1, 0, 1, 1)}},
-		{[]api.State{state(least, 9, greatest, -4)}, []api.Mail{message(least, 9, greatest, 0), message(greatest, -9, least, -1)}, []api.Mail{message(greatest, -9, least, -1)}},
+		{nil, nil, nil}, {[]api.State{sample.State(0, 0, 1, 1)}, nil, nil},
+		{nil, []api.Mail{sample.Mail(1, 0, 2, 9), sample.Mail(0, 1, 3, 4), sample.Mail(1, 0, 2, 7)}, []api.Mail{sample.Mail(0, 1, 3, 4), sample.Mail(1, 0, 2, 7)}},
+		{[]api.State{sample.State(0, 0, 1, 5), sample.State(0, 0, 1, 6)}, []api.Mail{sample.Mail(0, 0, 1, 1), sample.Mail(0, 1, 1, 1), sample.Mail(1, 0, 1, 1)}, []api.Mail{sample.Mail(0, 1, 1, 1), sample.Mail(1, 0, 1, 1)}},
+		{[]api.State{sample.State(least, 9, greatest, -4)}, []api.Mail{sample.Mail(least, 9, greatest, 0), sample.Mail(greatest, -9, least, -1)}, []api.Mail{sample.Mail(greatest, -9, least, -1)}},
 	} {
 		if got := round.Fresh(x.states, x.mails); !slices.Equal(got, x.want) {
 			t.Errorf("%d: %v", i, got)
@@ -46,7 +30,7 @@ func TestP19_1Fresh(t *testing.T) {
 }
 
 func TestP19_1Each(t *testing.T) {
-	states := []api.State{state(9, 0, 1, 0), state(0, 1, 1, 200), state(0, 0, 0, 1), state(0, 0, 2, 1), state(0, 0, 2, 1)}
+	states := []api.State{sample.State(9, 0, 1, 0), sample.State(0, 1, 1, 200), sample.State(0, 0, 0, 1), sample.State(0, 0, 2, 1), sample.State(0, 0, 2, 1)}
 	if l, e := round.Each(states, 4); !slices.Equal(l, []int{2, 1, 0, 2}) || e != api.OK {
 		t.Errorf("%v, %d", l, e)
 	}
@@ -71,13 +55,13 @@ func TestP19_1Each(t *testing.T) {
 // wrong are states that may not be.
 func wrong() []api.State {
 	return []api.State{
-		state(-1, 0, 0, 0), state(1001, 0, 0, 0), state(0, -1, 0, 0), state(0, 2, 0, 0), state(0, 0, -1, 0), state(0, 0, 200, 0), state(0, 0, 0, -1),
-		state(0, 0, 0, 201), state(least, least, least, least), state(greatest, greatest, greatest, greatest),
+		sample.State(-1, 0, 0, 0), sample.State(1001, 0, 0, 0), sample.State(0, -1, 0, 0), sample.State(0, 2, 0, 0), sample.State(0, 0, -1, 0), sample.State(0, 0, 200, 0), sample.State(0, 0, 0, -1),
+		sample.State(0, 0, 0, 201), sample.State(least, least, least, least), sample.State(greatest, greatest, greatest, greatest),
 	}
 }
 
 func TestP19_2Example(t *testing.T) {
-	_, r := made(sample.Plain(2, 0, 1))
+	_, r := sample.Rows(sample.Plain(2, 0, 1))
 	q := api.Query{Kind: 2, To: 1}
 	var states []api.State
 	mails := prog.Start(q, 0)
@@ -85,7 +69,7 @@ func TestP19_2Example(t *testing.T) {
 		states []api.State
 		mails  []api.Mail
 	}{
-		{[]api.State{state(0, 0, 0, 0)}, []api.Mail{message(0, 0, 1, 1)}}, {[]api.State{state(0, 0, 0, 0), state(0, 0, 1, 1)}, nil}, {[]api.State{state(0, 0, 0, 0), state(0, 0, 1, 1)}, nil},
+		{[]api.State{sample.State(0, 0, 0, 0)}, []api.Mail{sample.Mail(0, 0, 1, 1)}}, {[]api.State{sample.State(0, 0, 0, 0), sample.State(0, 0, 1, 1)}, nil}, {[]api.State{sample.State(0, 0, 0, 0), sample.State(0, 0, 1, 1)}, nil},
 	} {
 		s, m, e := round.Step(q, r, states, mails, 2, nil)
 		if !slices.Equal(s, want.states) || !slices.Equal(m, want.mails) || e != api.OK {
@@ -113,11 +97,11 @@ func plain(q api.Query, r api.Rows, states []api.State, mails []api.Mail) ([]api
 
 func TestP19_2And3OfSamples(t *testing.T) {
 	for seed := range 30 {
-		g, r := made(sample.Graph(seed, 2+seed, 3*seed))
+		g, r := sample.Rows(sample.Graph(seed, 2+seed, 3*seed))
 		row := sample.New(seed)
 		q := api.Query{Kind: 1 + seed%3, From: row.Below(g.N), To: row.Below(g.N), Words: []string{"a"}, Radius: row.Below(4), Most: 3}
-		states := []api.State{state(5, 1, 0, 7), state(9, 0, 1, 2)}
-		mails := append(prog.Start(q, 3), message(7, 1, 1, 0))
+		states := []api.State{sample.State(5, 1, 0, 7), sample.State(9, 0, 1, 2)}
+		mails := append(prog.Start(q, 3), sample.Mail(7, 1, 1, 0))
 		for range 8 {
 			want, sent := plain(q, r, states, mails)
 			fresh := len(round.Fresh(states, mails))
@@ -129,7 +113,7 @@ func TestP19_2And3OfSamples(t *testing.T) {
 				if len(s) != len(states)+fresh || len(round.Fresh(s, m)) != len(m) {
 					t.Fatalf("%d: %d states and %d fresh messages are %d", seed, len(states), fresh, len(s))
 				}
-				if !slices.Contains(s, state(5, 1, 0, 7)) || !slices.Contains(s, state(9, 0, 1, 2)) {
+				if !slices.Contains(s, sample.State(5, 1, 0, 7)) || !slices.Contains(s, sample.State(9, 0, 1, 2)) {
 					t.Errorf("%d: slots without a message: %v", seed, s)
 				}
 			}
@@ -139,14 +123,14 @@ func TestP19_2And3OfSamples(t *testing.T) {
 }
 
 func TestP19_2LeastMessageIsTaken(t *testing.T) {
-	_, r := made(sample.Plain(3, 0, 2, 1, 2))
-	s, m, e := round.Step(api.Query{Kind: 2}, r, nil, []api.Mail{message(0, 0, 1, 9), message(0, 0, 0, 4), message(0, 0, 1, 6)}, 3, []int{2, -1})
-	if !slices.Equal(s, []api.State{state(0, 0, 0, 4), state(0, 0, 1, 6)}) || !slices.Equal(m, []api.Mail{message(0, 0, 2, 5)}) || e != api.OK {
+	_, r := sample.Rows(sample.Plain(3, 0, 2, 1, 2))
+	s, m, e := round.Step(api.Query{Kind: 2}, r, nil, []api.Mail{sample.Mail(0, 0, 1, 9), sample.Mail(0, 0, 0, 4), sample.Mail(0, 0, 1, 6)}, 3, []int{2, -1})
+	if !slices.Equal(s, []api.State{sample.State(0, 0, 0, 4), sample.State(0, 0, 1, 6)}) || !slices.Equal(m, []api.Mail{sample.Mail(0, 0, 2, 5)}) || e != api.OK {
 		t.Errorf("%v, %v, %d", s, m, e)
 	}
 	// A state of the D 200 sends messages of 201, which may be told, but not taken.
-	s, m, e = round.Step(api.Query{Kind: 2}, r, nil, []api.Mail{message(0, 0, 0, 200)}, 1, nil)
-	if len(s) != 1 || !slices.Equal(m, []api.Mail{message(0, 0, 2, 201)}) || e != api.OK {
+	s, m, e = round.Step(api.Query{Kind: 2}, r, nil, []api.Mail{sample.Mail(0, 0, 0, 200)}, 1, nil)
+	if len(s) != 1 || !slices.Equal(m, []api.Mail{sample.Mail(0, 0, 2, 201)}) || e != api.OK {
 		t.Errorf("%v, %v, %d", s, m, e)
 	}
 	if _, _, e := round.Step(api.Query{Kind: 2}, r, s, m, 1, nil); e != api.ErrArg {
@@ -155,9 +139,9 @@ func TestP19_2LeastMessageIsTaken(t *testing.T) {
 }
 
 func TestP19_2Wrong(t *testing.T) {
-	_, r := made(sample.Plain(3, 0, 1))
+	_, r := sample.Rows(sample.Plain(3, 0, 1))
 	q := api.Query{Kind: 1}
-	a, b := state(0, 0, 0, 1), state(0, 0, 1, 1)
+	a, b := sample.State(0, 0, 0, 1), sample.State(0, 0, 1, 1)
 	for i, x := range []struct {
 		r       api.Rows
 		states  []api.State
@@ -165,9 +149,9 @@ func TestP19_2Wrong(t *testing.T) {
 		workers int
 		want    api.Errno
 	}{
-		{api.Rows{}, nil, nil, 1, api.ErrRows}, {api.Rows{}, []api.State{b, a}, []api.Mail{message(-1, 0, 0, 0)}, 0, api.ErrRows},
-		{r, []api.State{b, a}, nil, 1, api.ErrArg}, {r, []api.State{a, a}, nil, 1, api.ErrArg}, {r, []api.State{a, b, state(0, 0, 3, 1)}, nil, 1, api.ErrArg},
-		{r, nil, []api.Mail{message(0, 0, 3, 1)}, 1, api.ErrArg}, {r, nil, []api.Mail{message(0, 0, 0, 1), message(0, 1, 199, 200), message(0, 1, 2, 1)}, 16, api.ErrArg}, {r, []api.State{a}, []api.Mail{message(0, 0, 0, 201)}, 1, api.ErrArg},
+		{api.Rows{}, nil, nil, 1, api.ErrRows}, {api.Rows{}, []api.State{b, a}, []api.Mail{sample.Mail(-1, 0, 0, 0)}, 0, api.ErrRows},
+		{r, []api.State{b, a}, nil, 1, api.ErrArg}, {r, []api.State{a, a}, nil, 1, api.ErrArg}, {r, []api.State{a, b, sample.State(0, 0, 3, 1)}, nil, 1, api.ErrArg},
+		{r, nil, []api.Mail{sample.Mail(0, 0, 3, 1)}, 1, api.ErrArg}, {r, nil, []api.Mail{sample.Mail(0, 0, 0, 1), sample.Mail(0, 1, 199, 200), sample.Mail(0, 1, 2, 1)}, 16, api.ErrArg}, {r, []api.State{a}, []api.Mail{sample.Mail(0, 0, 0, 201)}, 1, api.ErrArg},
 		{r, nil, nil, 0, api.ErrArg}, {r, nil, nil, 17, api.ErrArg}, {r, nil, nil, -1, api.ErrArg}, {r, nil, nil, least, api.ErrArg}, {r, nil, nil, greatest, api.ErrArg},
 	} {
 		if s, m, e := round.Step(q, x.r, x.states, x.mails, x.workers, []int{1}); len(s)+len(m) != 0 || e != x.want {
@@ -184,7 +168,7 @@ func TestP19_2Wrong(t *testing.T) {
 
 // All messages that a worker gets are of places whose home it is: with the states of each worker told by Each.
 func TestP19_1EachOfSteps(t *testing.T) {
-	g, r := made(sample.Graph(4, 30, 90))
+	g, r := sample.Rows(sample.Graph(4, 30, 90))
 	q := api.Query{Kind: 1, From: 0, To: g.N - 1}
 	states, mails := []api.State(nil), prog.Start(q, 0)
 	for range 6 {
@@ -201,16 +185,16 @@ func TestP19_1EachOfSteps(t *testing.T) {
 }
 
 func TestR2NothingShared(t *testing.T) {
-	_, r := made(sample.Plain(3, 0, 1, 1, 2))
-	room := []api.State{state(0, 0, 2, 1), state(1, 0, 0, 5), state(1, 0, 1, 5)}
+	_, r := sample.Rows(sample.Plain(3, 0, 1, 1, 2))
+	room := []api.State{sample.State(0, 0, 2, 1), sample.State(1, 0, 0, 5), sample.State(1, 0, 1, 5)}
 	states := room[:1]
-	mails := []api.Mail{message(0, 0, 1, 4), message(0, 0, 0, 4)}
+	mails := []api.Mail{sample.Mail(0, 0, 1, 4), sample.Mail(0, 0, 0, 4)}
 	s, m, _ := round.Step(api.Query{Kind: 2}, r, states, mails, 2, []int{1})
 	s[0].D = 99
-	_ = append(m, message(9, 9, 9, 9))
+	_ = append(m, sample.Mail(9, 9, 9, 9))
 	f := round.Fresh(states, mails)
 	f[0].D = 99
-	if room[0] != state(0, 0, 2, 1) || room[1] != state(1, 0, 0, 5) || mails[0] != message(0, 0, 1, 4) || mails[1] != message(0, 0, 0, 4) {
+	if room[0] != sample.State(0, 0, 2, 1) || room[1] != sample.State(1, 0, 0, 5) || mails[0] != sample.Mail(0, 0, 1, 4) || mails[1] != sample.Mail(0, 0, 0, 4) {
 		t.Errorf("%v, %v", room, mails)
 	}
 }

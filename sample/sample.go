@@ -1,7 +1,14 @@
 // Package sample makes things for tests, each from numbers alone, and works out by the plainest way what others have to tell of them.
 package sample
 
-import "wayside/api"
+import (
+	"slices"
+
+	"wayside/api"
+	"wayside/graph"
+	"wayside/posting"
+	"wayside/rows"
+)
 
 // Row is numbers that follow one another as a short rule says, from a seed on.
 type Row struct{ last uint64 }
@@ -107,3 +114,38 @@ func Ways(ends ...int) []api.Edge {
 func Plain(n int, ends ...int) api.Graph {
 	return api.Graph{N: n, Edges: Ways(ends...), Words: make([][]string, n)}
 }
+
+// Rows is g's Normal, and its rows.
+func Rows(g api.Graph) (api.Graph, api.Rows) {
+	n, _ := graph.Normal(g)
+	r, _ := rows.Make(n)
+	return n, r
+}
+
+// Whole is g's Normal, its rows, and its postings.
+func Whole(g api.Graph) (api.Graph, api.Rows, []api.Posting) {
+	n, r := Rows(g)
+	l, _ := posting.Make(n)
+	return n, r, l
+}
+
+// Same says whether two graphs are alike; a list of none may be nil.
+func Same(a, b api.Graph) bool {
+	if a.N != b.N || !slices.Equal(a.Edges, b.Edges) || len(a.Words) != len(b.Words) {
+		return false
+	}
+	for v := range a.Words {
+		if !slices.Equal(a.Words[v], b.Words[v]) {
+			return false
+		}
+	}
+	return true
+}
+
+// State is a state of that key and D.
+func State(slot, dir, v, d int) api.State {
+	return api.State{Key: api.Key{Slot: slot, Dir: dir, V: v}, D: d}
+}
+
+// Mail is a message of that key and D.
+func Mail(slot, dir, v, d int) api.Mail { return api.Mail(State(slot, dir, v, d)) }

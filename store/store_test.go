@@ -20,10 +20,6 @@ func made(t *testing.T, size int) *store.Store {
 	return s
 }
 
-func state(slot, dir, v, d int) api.State {
-	return api.State{Key: api.Key{Slot: slot, Dir: dir, V: v}, D: d}
-}
-
 func TestP15_1New(t *testing.T) {
 	for _, size := range []int{0, -1, 401, least, greatest} {
 		if s, e := store.New(size); s != nil || e != api.ErrArg {
@@ -33,11 +29,11 @@ func TestP15_1New(t *testing.T) {
 	for _, size := range []int{1, 400} {
 		s := made(t, size)
 		for i := range size {
-			if e := s.Put(state(i/200, i%2, i%200, 1)); e != api.OK || s.Live() != i+1 || s.Free() != size-1-i {
+			if e := s.Put(sample.State(i/200, i%2, i%200, 1)); e != api.OK || s.Live() != i+1 || s.Free() != size-1-i {
 				t.Fatalf("%d of %d: %d", i, size, e)
 			}
 		}
-		if e := s.Put(state(9, 0, 0, 0)); e != api.ErrFull || s.Live() != size || s.Free() != 0 {
+		if e := s.Put(sample.State(9, 0, 0, 0)); e != api.ErrFull || s.Live() != size || s.Free() != 0 {
 			t.Errorf("one more than %d: %d", size, e)
 		}
 	}
@@ -45,18 +41,18 @@ func TestP15_1New(t *testing.T) {
 
 func TestP15_1Example(t *testing.T) {
 	s := made(t, 2)
-	a, b := s.Put(state(0, 0, 5, 3)), s.Put(state(0, 0, 5, 3))
-	c, d := s.Put(state(1, 0, 5, 3)), s.Put(state(1, 1, 5, 3))
+	a, b := s.Put(sample.State(0, 0, 5, 3)), s.Put(sample.State(0, 0, 5, 3))
+	c, d := s.Put(sample.State(1, 0, 5, 3)), s.Put(sample.State(1, 1, 5, 3))
 	if a != api.OK || b != api.ErrThere || c != api.OK || d != api.ErrFull {
 		t.Errorf("%d, %d, %d, %d", a, b, c, d)
 	}
-	if e := s.Put(state(0, 0, 5, 4)); e != api.ErrThere {
+	if e := s.Put(sample.State(0, 0, 5, 4)); e != api.ErrThere {
 		t.Errorf("a full store, a state that is there: %d", e)
 	}
-	if n := s.Drop(0); n != 1 || s.Put(state(1, 1, 5, 7)) != api.OK {
+	if n := s.Drop(0); n != 1 || s.Put(sample.State(1, 1, 5, 7)) != api.OK {
 		t.Errorf("%d", n)
 	}
-	if l := s.Of(1); !slices.Equal(l, []api.State{state(1, 0, 5, 3), state(1, 1, 5, 7)}) {
+	if l := s.Of(1); !slices.Equal(l, []api.State{sample.State(1, 0, 5, 3), sample.State(1, 1, 5, 7)}) {
 		t.Errorf("%v", l)
 	}
 	if d, ok := s.Get(api.Key{Slot: 1, Dir: 1, V: 5}); d != 7 || !ok {
@@ -70,15 +66,15 @@ func TestP15_1Example(t *testing.T) {
 func TestP15_1Wrong(t *testing.T) {
 	s := made(t, 3)
 	for _, x := range []api.State{
-		state(-1, 0, 0, 0), state(1001, 0, 0, 0), state(0, -1, 0, 0), state(0, 2, 0, 0), state(0, 0, -1, 0), state(0, 0, 200, 0),
-		state(0, 0, 0, -1), state(0, 0, 0, 201), state(least, least, least, least), state(greatest, greatest, greatest, greatest),
+		sample.State(-1, 0, 0, 0), sample.State(1001, 0, 0, 0), sample.State(0, -1, 0, 0), sample.State(0, 2, 0, 0), sample.State(0, 0, -1, 0), sample.State(0, 0, 200, 0),
+		sample.State(0, 0, 0, -1), sample.State(0, 0, 0, 201), sample.State(least, least, least, least), sample.State(greatest, greatest, greatest, greatest),
 	} {
 		d, ok := s.Get(x.Key)
 		if e := s.Put(x); e != api.ErrArg || d != 0 || ok || s.Live() != 0 {
 			t.Errorf("%v: %d, %d, %v", x, e, d, ok)
 		}
 	}
-	for _, x := range []api.State{state(0, 0, 0, 0), state(1000, 1, 199, 200)} {
+	for _, x := range []api.State{sample.State(0, 0, 0, 0), sample.State(1000, 1, 199, 200)} {
 		if e := s.Put(x); e != api.OK {
 			t.Errorf("%v: %d", x, e)
 		}
@@ -100,7 +96,7 @@ func TestP15_1NoStore(t *testing.T) {
 		if d != 0 || ok || len(none.Of(0)) != 0 || none.Drop(0) != 0 || none.Live() != 0 || none.Free() != 0 {
 			t.Errorf("no store: %d, %v", d, ok)
 		}
-		for _, x := range []api.State{state(0, 0, 0, 0), state(-1, 0, 0, 0)} {
+		for _, x := range []api.State{sample.State(0, 0, 0, 0), sample.State(-1, 0, 0, 0)} {
 			if e := none.Put(x); none == nil && e != api.ErrNil || e == api.OK {
 				t.Errorf("no store: Put %v: %d", x, e)
 			}
@@ -120,7 +116,7 @@ func TestP15_2WhatFollows(t *testing.T) {
 			for dir := range 2 {
 				for v := range 20 {
 					if d, ok := there[api.Key{Slot: slot, Dir: dir, V: v}]; ok {
-						l = append(l, state(slot, dir, v, d))
+						l = append(l, sample.State(slot, dir, v, d))
 					}
 				}
 			}
@@ -128,7 +124,7 @@ func TestP15_2WhatFollows(t *testing.T) {
 		}
 		for range 500 {
 			slot := r.Below(4)
-			x := state(slot, r.Below(2), r.Below(20), r.Below(201))
+			x := sample.State(slot, r.Below(2), r.Below(20), r.Below(201))
 			_, was := there[x.Key]
 			want := api.OK
 			switch {
@@ -171,10 +167,10 @@ func TestP15_2WhatFollows(t *testing.T) {
 
 func TestR2NothingShared(t *testing.T) {
 	s := made(t, 3)
-	s.Put(state(0, 0, 1, 1))
+	s.Put(sample.State(0, 0, 1, 1))
 	s.Of(0)[0].D = 9
-	_ = append(s.Of(0), state(0, 0, 2, 2))
-	if l := s.Of(0); !slices.Equal(l, []api.State{state(0, 0, 1, 1)}) {
+	_ = append(s.Of(0), sample.State(0, 0, 2, 2))
+	if l := s.Of(0); !slices.Equal(l, []api.State{sample.State(0, 0, 1, 1)}) {
 		t.Errorf("%v", l)
 	}
 }
